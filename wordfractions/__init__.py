@@ -1,0 +1,1 @@
+"""Wordfractions: a grammar workshop of words that bear kinds."""

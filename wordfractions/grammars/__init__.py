@@ -1,0 +1,1 @@
+"""Grammars of rules."""

@@ -1,0 +1,1 @@
+"""Kinds: their shape, text, order and balance."""

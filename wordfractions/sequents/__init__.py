@@ -1,0 +1,1 @@
+"""Sequents, the rules that lead to them, and derivations."""

@@ -1,0 +1,1 @@
+"""Words and dictionaries."""
