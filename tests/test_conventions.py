@@ -1,9 +1,19 @@
-"""[2]: where things are defined, what they take, and that they change nothing."""
+"""[2], [3]: where things are defined, what they take, and how deep their calls nest."""
 
 import importlib
 import inspect
+import sys
 
-from tests.helper import Case
+from tests.helper import Case, comb, identity
+from tests.test_derivation_rows import chain
+from wordfractions.kinds.balance import Balance
+from wordfractions.kinds.order import kind_before
+from wordfractions.kinds.shape import is_kind, mirror_kind, substitute_kind
+from wordfractions.kinds.text import format_kind, parse_kind
+from wordfractions.sequents.faults import count_steps, first_fault
+from wordfractions.sequents.rows import format_derivation, parse_derivation
+from wordfractions.trees.shape import format_tree, leaves_of, tree_fault
+from wordfractions.words.dictionary import Dictionary
 
 INTERFACE = {
     "kinds.shape": {
@@ -61,12 +71,40 @@ class InterfaceTest(Case):
                 self.assertEqual(parameters(vars(owner)[method]), wanted)
 
     def test_defaults(self):
-        from wordfractions.kinds.balance import Balance
-        from wordfractions.kinds.text import parse_kind
-        from wordfractions.sequents.faults import first_fault
-        from wordfractions.words.dictionary import Dictionary
-
         self.assertEqual(inspect.signature(parse_kind).parameters["shorts"].default, ())
         self.assertIs(inspect.signature(first_fault).parameters["allow_cuts"].default, False)
         self.assertEqual(inspect.signature(Balance).parameters["letters"].default, ())
         self.assertEqual(inspect.signature(Dictionary).parameters["entries"].default, ())
+
+
+class DepthTest(Case):
+    """Within the bounds a few hundred calls within one another are enough."""
+
+    def setUp(self):
+        limit = sys.getrecursionlimit()
+        self.addCleanup(sys.setrecursionlimit, limit)
+        sys.setrecursionlimit(len(inspect.stack()) + 250)
+
+    def test_kinds(self):
+        kind = comb(40)
+        self.assertTrue(is_kind(kind))
+        self.assertTrue(mirror_kind(kind) != kind)
+        self.assertTrue(substitute_kind(kind, "n", "s") == comb(40, "s"))
+        self.assertTrue(kind_before(kind, comb(40, left=False)) is False)
+        self.assertTrue(len(Balance.of(kind)) == 38)
+        self.assertTrue(parse_kind(format_kind(kind)) == kind)
+        self.assertTrue(parse_kind("(" * 199 + "n" + ")" * 199) == "n")
+
+    def test_derivations(self):
+        deep = chain(199)
+        self.assertTrue(first_fault(deep, allow_cuts=True) is None)
+        self.assertTrue(count_steps(deep) == 199)
+        self.assertTrue(format_derivation(parse_derivation(format_derivation(deep))) == format_derivation(deep))
+
+    def test_trees(self):
+        tree = ("leaf", "n")
+        for _ in range(60):
+            tree = ("unary", "n", tree, identity("n"))
+        self.assertTrue(tree_fault(tree) is None)
+        self.assertTrue(leaves_of(tree) == ("n",))
+        self.assertTrue(len(format_tree(tree).split("\n")) == 61)

@@ -2,7 +2,7 @@
 
 import itertools
 
-from tests.helper import Case, apply_over, apply_under, identity, stub
+from tests.helper import Case, apply_over, apply_under, bush, identity, stub
 from wordfractions.sequents.faults import count_steps, first_fault, is_cut_free, walk_steps
 from wordfractions.sequents.rules import make_axiom, make_step
 
@@ -90,6 +90,15 @@ class FirstFaultTest(Case):
         self.fault(stub(("n",) * 40, ("/", "n", "n"), (wide,)), ())
         over = ("over right", ("n",) * 40, ("/", "n", "n"), 0, 0, (wide,))
         self.fault(over, ())
+
+    def test_new_sequents_beyond_the_bounds(self):
+        """The step is told as it would be, if there were no bounds."""
+        half, more = stub(("n",) * 20, "n"), stub(("n",) * 21, "n")
+        self.fault(("pair right", ("n",) * 41, ("*", "n", "n"), 20, 0, (half, more)), ())
+        wide, wider = identity(bush(20)), identity(bush(21))
+        pair = ("*", bush(20), bush(21))
+        self.fault(make_step("pair right", 1, (wide, wide)), None)
+        self.fault(("pair right", (bush(20), bush(21)), pair, 1, 0, (wide, wider)), ())
 
     def test_cuts(self):
         cut = cut_of(VP)

@@ -62,6 +62,22 @@ class IsKindTest(Case):
             self.kind(bush(40, sign=sign))
             self.no_kind(bush(41, sign=sign))
 
+    def test_a_wrong_part_beside_a_large_one(self):
+        for part in ((), ("n",), ("x", "n", "n"), "N", "n.0", None, 7, ["/", "n", "n"], ("/", "n", ()), comb(41)):
+            for size in (1, 2, 3, 4, 38, 39):
+                self.no_kind(("/", part, comb(size)))
+                self.no_kind(("*", bush(size), part))
+
+    def test_things_that_cannot_be_compared(self):
+        class Odd:
+            def __eq__(self, other):
+                raise TypeError("not to be compared")
+
+        self.no_kind(Odd())
+        self.no_kind((Odd(), "n", "n"))
+        self.no_kind(("/", Odd(), "n"))
+        self.no_kind(("/", "n", (Odd(), Odd(), Odd())))
+
     def test_deep_and_wide_things(self):
         deep = "n"
         for _ in range(59):

@@ -13,8 +13,7 @@ def tree_kind(tree):
 
 def _subtrees(node):
     """Return the trees directly in the node, from the left."""
-    if node[0] == "leaf":
-        return ()
+    # They stand between the kind and the derivation; a leaf has neither.
     return node[2:-1]
 
 
