@@ -2,8 +2,8 @@
 
 import unittest
 
-from wordfractions.errors import WordsError
-from wordfractions.sequents.rules import make_axiom, make_step
+from wordfractions.errors import FitError, WordsError
+from wordfractions.sequents.rules import make_axiom, make_step, sequent_of
 from wordfractions.sequents.steps import last_steps
 
 
@@ -80,3 +80,43 @@ def derivations(sequent):
             rows = [row + (derivation,) for row in rows for derivation in derivations(part)]
         found.extend([make_step(rule, at, row) for row in rows])
     return found
+
+
+def all_derivations(atoms, most):
+    """All derivations without cuts with at most so many atoms, made forwards: {sequent: derivations}."""
+    by_size = {size: [] for size in range(most + 1)}
+    by_size[2] = [make_axiom(atom) for atom in atoms]
+    for size in range(2, most + 1):
+        for ahead in range(2, size - 1):
+            for first in by_size[ahead]:
+                for second in by_size[size - ahead]:
+                    by_size[size].extend(_fitting(("pair right", "over left", "under left"), (first, second)))
+        waiting = list(by_size[size])
+        while waiting:
+            made = _fitting(("over right", "under right", "pair left"), (waiting.pop(),))
+            by_size[size].extend(made)
+            waiting.extend(made)
+    found = {}
+    for derivations_of_size in by_size.values():
+        for derivation in derivations_of_size:
+            found.setdefault(sequent_of(derivation), []).append(derivation)
+    return found
+
+
+def _fitting(rules, parts):
+    """All steps by these rules over these parts."""
+    found = []
+    for rule in rules:
+        for at in range(sum(len(part[1]) for part in parts) + 1):
+            try:
+                found.append(make_step(rule, at, parts))
+            except FitError:
+                pass
+    return found
+
+
+def order_key(derivation):
+    """What puts the derivations of a sequent into the order of [28]."""
+    steps = [step[:3] for step in last_steps(sequent_of(derivation))]
+    place = steps.index((derivation[0], derivation[3], derivation[4]))
+    return (place,) + tuple(order_key(part) for part in derivation[5])

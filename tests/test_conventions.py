@@ -6,12 +6,25 @@ import sys
 
 from tests.helper import Case, comb, identity
 from tests.test_derivation_rows import chain
+from wordfractions.cuts.compose import compose
+from wordfractions.cuts.eliminate import eliminate_cuts
+from wordfractions.cuts.identity import identity as lone
+from wordfractions.cuts.substitute import substitute
 from wordfractions.kinds.balance import Balance
 from wordfractions.kinds.order import kind_before
 from wordfractions.kinds.shape import is_kind, mirror_kind, substitute_kind
 from wordfractions.kinds.text import format_kind, parse_kind
+from wordfractions.meanings.derivations import derivation_value
+from wordfractions.middles.interpolate import interpolate
+from wordfractions.middles.mirror import mirror_derivation
+from wordfractions.middles.numbers import number_axioms, unnumber
+from wordfractions.search.count import count_derivations
+from wordfractions.search.decide import decide
+from wordfractions.search.listing import derivation_at, derivations_of, index_of
 from wordfractions.sequents.faults import count_steps, first_fault
 from wordfractions.sequents.rows import format_derivation, parse_derivation
+from wordfractions.sequents.rules import make_step, sequent_of
+from wordfractions.trees.binarize import binarize
 from wordfractions.trees.shape import format_tree, leaves_of, tree_fault
 from wordfractions.words.dictionary import Dictionary
 
@@ -33,6 +46,31 @@ INTERFACE = {
         "first_fault": "derivation *allow_cuts", "count_steps": "derivation", "is_cut_free": "derivation",
         "walk_steps": "derivation"},
     "sequents.rows": {"format_derivation": "derivation", "parse_derivation": "text"},
+    "sequents.tables": {"is_closed": "table", "closes": "table sequent"},
+    "search.decide": {"decide": "sequent", "derivable": "sequent"},
+    "search.count": {"count_derivations": "sequent"},
+    "search.listing": {
+        "derivation_at": "sequent index", "derivations_of": "sequent", "index_of": "derivation"},
+    "cuts.identity": {"identity": "kind"},
+    "cuts.compose": {"compose": "first second at"},
+    "cuts.eliminate": {"eliminate_cuts": "derivation"},
+    "cuts.substitute": {"substitute": "derivation atom kind"},
+    "cuts.ways": {
+        "to_over": "derivation", "from_over": "derivation", "to_under": "derivation", "from_under": "derivation",
+        "to_pair": "derivation at", "from_pair": "derivation at", "apply_over": "a b", "apply_under": "a b",
+        "pair_up": "a b", "lift_over": "a b", "lift_under": "a b", "chain_over": "a b c", "chain_under": "a b c",
+        "divide_over": "a b c", "divide_under": "a b c", "curry_over": "a b c", "uncurry_over": "a b c",
+        "curry_under": "a b c", "uncurry_under": "a b c", "swap_over": "a b c", "swap_under": "a b c",
+        "regroup_left": "a b c", "regroup_right": "a b c"},
+    "meanings.values": {
+        "count_values": "kind world", "apply_value": "kind world value argument", "build_value": "kind world entries",
+        "pair_value": "kind world first second", "split_value": "kind world value"},
+    "meanings.derivations": {"derivation_value": "derivation world values"},
+    "middles.mirror": {"mirror_derivation": "derivation"},
+    "middles.numbers": {"number_axioms": "derivation", "unnumber_kind": "kind", "unnumber": "derivation"},
+    "middles.interpolate": {"interpolate": "derivation start stop"},
+    "trees.neighbours": {"neighbours": "balances"},
+    "trees.binarize": {"binarize": "derivation"},
     "trees.shape": {
         "tree_kind": "tree", "leaves_of": "tree", "count_nodes": "tree", "largest_size": "tree", "tree_fault": "tree",
         "format_tree": "tree"},
@@ -100,6 +138,46 @@ class DepthTest(Case):
         self.assertTrue(first_fault(deep, allow_cuts=True) is None)
         self.assertTrue(count_steps(deep) == 199)
         self.assertTrue(format_derivation(parse_derivation(format_derivation(deep))) == format_derivation(deep))
+
+    def test_search(self):
+        deep = (("n",), ("/", comb(10, sign=">", left=False), comb(9, left=False)))
+        self.assertTrue(decide(deep)[0] == "refused")
+        raised = identity(comb(12, left=False))
+        sequent = sequent_of(raised)
+        self.assertTrue(decide(sequent)[0] == "derived")
+        self.assertTrue(count_derivations(sequent) > 0)
+        self.assertTrue(derivation_at(sequent, index_of(raised)) == raised)
+        self.assertTrue(len(list(derivations_of(sequent))) == count_derivations(sequent))
+
+    def test_derivations_made_of_derivations(self):
+        for sign in "/>*":
+            for left in (True, False):
+                kind = comb(40, sign=sign, left=left)
+                made = lone(kind)
+                self.assertTrue(sequent_of(compose(made, made, 0)) == ((kind,), kind))
+                self.assertTrue(eliminate_cuts(made) == made)
+                self.assertTrue(substitute(made, "n", "s") != made)
+                self.assertTrue(derivation_value(made, {}, (0,)) == 0)
+                self.assertTrue(mirror_derivation(mirror_derivation(made)) == made)
+                self.assertTrue(unnumber(number_axioms(made)) == made)
+                self.assertTrue(interpolate(made, 0, 1)[0] != "n")
+                self.assertTrue(binarize(made)[0] == "unary")
+
+    def test_deep_derivations(self):
+        deep = chain(199)
+        self.assertTrue(eliminate_cuts(deep) == ("axiom", ("n",), "n", 0, 0, ()))
+        self.assertTrue(derivation_value(deep, {"n": 2}, (1,)) == 1)
+        self.assertTrue(mirror_derivation(deep) == deep)
+        self.assertTrue(unnumber(deep) == deep)
+        long = ("axiom", ("n",), "n", 0, 0, ())
+        for _ in range(39):
+            long = make_step("over left", 0, (long, ("axiom", ("n",), "n", 0, 0, ())))
+        for _ in range(19):
+            long = make_step("over right" if len(long[1]) > 30 else "under right", 0, (long,))
+        self.assertTrue(binarize(long)[0] == "binary")
+        self.assertTrue(interpolate(long, 0, 1)[0] != "")
+        self.assertTrue(derivation_value(long, {"n": 1}, (0,) * 21) == 0)
+        self.assertTrue(sequent_of(compose(long, lone(long[2]), 0)) == sequent_of(long))
 
     def test_trees(self):
         tree = ("leaf", "n")

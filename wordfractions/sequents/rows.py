@@ -2,24 +2,12 @@
 
 from wordfractions.errors import DerivationError, FitError, SizeError
 from wordfractions.kinds.shape import DIGITS, consists_of
+from wordfractions.sequents.parts import steps_from_parts
 from wordfractions.sequents.rules import make_axiom, make_step, sequent_of
 from wordfractions.sequents.text import ARROW, format_sequent
 
 MOST_ROWS = 200
 MOST_DIGITS = 9
-
-
-def _steps_from_parts(derivation):
-    """Return all steps, those of the first part first and the whole last."""
-    found = []
-    waiting = [derivation]
-    # The whole ahead of its parts, and these from the right: read backwards,
-    # that is the order of the rows.
-    while waiting:
-        step = waiting.pop()
-        found.append(step)
-        waiting.extend(step[5])
-    return found[::-1]
 
 
 def _format_row(number, step, part_numbers):
@@ -31,12 +19,8 @@ def _format_row(number, step, part_numbers):
 def format_derivation(derivation):
     """Return the text of the derivation, a row for each step."""
     rows = []
-    # The numbers of the rows that are not parts of a later row yet.
-    loose = []
-    for number, step in enumerate(_steps_from_parts(derivation), start=1):
-        first = len(loose) - len(step[5])
-        rows.append(_format_row(number, step, loose[first:]))
-        loose = loose[:first] + [number]
+    for number, (step, places) in enumerate(steps_from_parts(derivation), start=1):
+        rows.append(_format_row(number, step, [place + 1 for place in places]))
     return "\n".join(rows)
 
 

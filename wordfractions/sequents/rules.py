@@ -7,6 +7,7 @@ from wordfractions.sequents.sequent import is_within_bounds
 RULES = (
     "axiom", "over right", "under right", "pair right", "over left", "under left", "pair left", "cut",
 )
+LEFT_RULES = ("over left", "under left", "pair left")
 
 
 def sequent_of(derivation):
@@ -90,16 +91,22 @@ _MAKERS = {
 }
 
 
+def build_step(rule, at, parts):
+    """Return the step by the rule, over as many parts as it takes, of any size."""
+    maker = _MAKERS[rule]
+    premises, goal, width = maker(at, [sequent_of(part) for part in parts])
+    return (rule, premises, goal, at, width, parts)
+
+
 def make_step(rule, at, parts):
     """Return the step by the rule at this place, over these parts."""
     _require(rule in _MAKERS and len(parts) == _PART_COUNTS[rule])
-    sequents = [sequent_of(part) for part in parts]
-    for sequent in sequents:
+    for part in parts:
+        sequent = sequent_of(part)
         _require(len(sequent[0]) > 0 and is_within_bounds(sequent))
-    maker = _MAKERS[rule]
-    premises, goal, width = maker(at, sequents)
-    if not is_within_bounds((premises, goal)):
+    step = build_step(rule, at, parts)
+    if not is_within_bounds(sequent_of(step)):
         raise SizeError("a sequent with too many premises or atoms")
-    if max([size_of(kind) for kind in (*premises, goal)]) > MOST_ATOMS:
+    if max([size_of(kind) for kind in (*step[1], step[2])]) > MOST_ATOMS:
         raise SizeError("a kind with too many atoms")
-    return (rule, premises, goal, at, width, parts)
+    return step

@@ -1,0 +1,1 @@
+"""Derivations made of derivations, without cuts."""

@@ -1,0 +1,1 @@
+"""Values of kinds and derivations in finite worlds."""

@@ -1,0 +1,1 @@
+"""Mirrors, numbered derivations and interpolants."""

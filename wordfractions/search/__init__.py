@@ -1,0 +1,1 @@
+"""The search for derivations without cuts."""
