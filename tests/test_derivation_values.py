@@ -248,6 +248,32 @@ class DerivationValueTest(Case):
                 table = value // 4 ** table % 4
             self.same(derivation_value(deep, world, values), table // 2 ** values[19] % 2)
 
+    def test_very_many_bound_values(self):
+        """Ten values are bound within one another, and the innermost step has them all."""
+        world = {"n": 3, "u": 2}
+        apply = make_step("over left", 0, (N, make_axiom("u")))
+        deep = apply
+        for _ in range(9):
+            deep = make_step("over left", 0, (deep, apply))
+        for _ in range(10):
+            deep = make_step("over left", 0, (make_step("over right", 0, (deep,)), make_axiom("u")))
+        self.assertEqual([count(kind, world) for kind in deep[1]], [256] * 10 + [64] * 9 + [8])
+        rng = random.Random(4)
+        values = tuple(rng.randrange(count(kind, world)) for kind in deep[1])
+        outer, inner = values[:10], values[10:]
+
+        def rest(level, function):
+            """The value from this level on, where the function is what the next value is put into."""
+            table = 0
+            for bound in range(3):
+                found = function // 2 ** bound % 2
+                if level < 9:
+                    found = rest(level + 1, inner[8 - level] // 8 ** found % 8)
+                table += found * 2 ** bound
+            return outer[level] // 2 ** table % 2
+
+        self.same(derivation_value(deep, world, values), rest(0, inner[9]))
+
     def test_the_world_and_the_derivation_stay(self):
         world = {"n": 2, "s": 2}
         derivation = lift_over("n", "s")

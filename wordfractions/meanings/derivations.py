@@ -6,6 +6,7 @@ from wordfractions.meanings.values import count_values, digit_at, number_of_digi
 from wordfractions.sequents.parts import steps_from_parts
 
 MOST_STEP_VALUES = 10 ** 4
+MOST_KNOWN = 10 ** 5
 
 
 def derivation_value(derivation, world, values):
@@ -86,6 +87,9 @@ def _evaluate(tasks, number, values, known):
         ahead = values[:min(start, at)]
         behind = values[max(start + width, at + 1):]
         value = _evaluate(tasks, places[1], (*ahead, found, *behind), known)
+    if len(known) >= MOST_KNOWN:
+        # Tables within tables may have very many entries, too many to keep.
+        known.clear()
     known[key] = value
     return value
 

@@ -64,8 +64,9 @@ def _rows(parts, counts):
     if len(parts) == 0:
         yield ()
         return
-    for first in _derivations(parts[0], counts):
-        for others in _rows(parts[1:], counts):
+    head, rest = parts[0], parts[1:]
+    for first in _derivations(head, counts):
+        for others in _rows(rest, counts):
             yield (first,) + others
 
 
