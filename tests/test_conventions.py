@@ -6,6 +6,9 @@ import sys
 
 from tests.helper import Case, comb, identity
 from tests.test_derivation_rows import chain
+from wordfractions.books.book import Book
+from wordfractions.books.chart import fill_chart, read_row
+from wordfractions.books.least import least_words
 from wordfractions.cuts.compose import compose
 from wordfractions.cuts.eliminate import eliminate_cuts
 from wordfractions.cuts.identity import identity as lone
@@ -24,7 +27,9 @@ from wordfractions.search.listing import derivation_at, derivations_of, index_of
 from wordfractions.sequents.faults import count_steps, first_fault
 from wordfractions.sequents.rows import format_derivation, parse_derivation
 from wordfractions.sequents.rules import make_step, sequent_of
+from wordfractions.trees.back import tree_derivation
 from wordfractions.trees.binarize import binarize
+from wordfractions.trees.meaning import tree_value
 from wordfractions.trees.shape import format_tree, leaves_of, tree_fault
 from wordfractions.words.dictionary import Dictionary
 
@@ -71,18 +76,28 @@ INTERFACE = {
     "middles.interpolate": {"interpolate": "derivation start stop"},
     "trees.neighbours": {"neighbours": "balances"},
     "trees.binarize": {"binarize": "derivation"},
+    "trees.back": {"tree_derivation": "tree"},
+    "trees.meaning": {"tree_value": "tree world values"},
     "trees.shape": {
         "tree_kind": "tree", "leaves_of": "tree", "count_nodes": "tree", "largest_size": "tree", "tree_fault": "tree",
         "format_tree": "tree"},
     "words.dictionary": {"Dictionary": "wish entries"},
+    "words.phrase": {"check_phrase": "words", "phrase_row": "dictionary words"},
     "words.text": {"format_dictionary": "dictionary", "parse_dictionary": "text"},
+    "books.book": {"Book": "atoms most"},
+    "books.chart": {"fill_chart": "book row", "read_row": "book row wish"},
+    "books.least": {"least_words": "book choices"},
+    "books.phrases": {"dictionary_book": "dictionary", "book_reads": "dictionary words"},
     "grammars.grammar": {"Grammar": "start rules"},
     "grammars.text": {"format_grammar": "grammar", "parse_grammar": "text"},
+    "grammars.twopart": {"two_part_form": "grammar", "grammar_reads": "grammar words"},
 }
 METHODS = {
     "words.dictionary": {"kinds_of": "self word", "with_wish": "self kind", "with_kind": "self word kind",
                          "without_kind": "self word kind"},
+    "books.book": {"unary": "self kind", "binary": "self left right", "derivation": "self kind parts"},
 }
+CLASS_METHODS = {"books.book": {"Book": {"covering": "first **others"}}}
 MARKS = {inspect.Parameter.KEYWORD_ONLY: "*", inspect.Parameter.VAR_POSITIONAL: "**"}
 
 
@@ -107,6 +122,14 @@ class InterfaceTest(Case):
             (owner,) = [getattr(module, thing) for thing in INTERFACE[name]]
             for method, wanted in methods.items():
                 self.assertEqual(parameters(vars(owner)[method]), wanted)
+
+    def test_class_methods(self):
+        for name, owners in CLASS_METHODS.items():
+            module = importlib.import_module("wordfractions." + name)
+            for owner, methods in owners.items():
+                for method, wanted in methods.items():
+                    self.assertIsInstance(vars(getattr(module, owner))[method], classmethod)
+                    self.assertEqual(parameters(getattr(getattr(module, owner), method)), wanted)
 
     def test_defaults(self):
         self.assertEqual(inspect.signature(parse_kind).parameters["shorts"].default, ())
@@ -186,3 +209,18 @@ class DepthTest(Case):
         self.assertTrue(tree_fault(tree) is None)
         self.assertTrue(leaves_of(tree) == ("n",))
         self.assertTrue(len(format_tree(tree).split("\n")) == 61)
+        self.assertTrue(tree_derivation(tree) == identity("n"))
+        self.assertTrue(tree_value(tree, {"n": 2}, (1,)) == 1)
+        wide = comb(40)
+        tree = ("leaf", wide)
+        for _ in range(60):
+            tree = ("unary", wide, tree, identity(wide))
+        self.assertTrue(tree_derivation(tree) == identity(wide))
+        self.assertTrue(tree_value(tree, {}, (0,)) == 0)
+
+    def test_books(self):
+        book = Book(("n",), 4)
+        rows = (("n", comb(4), comb(4, left=False)),) * 8
+        self.assertTrue(len(fill_chart(book, rows)) == 36)
+        self.assertTrue(read_row(book, rows, "n") is None or tree_fault(read_row(book, rows, "n")) is None)
+        self.assertTrue(least_words(book, (("word", "n"),))["n"] == 1)

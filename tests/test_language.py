@@ -165,6 +165,13 @@ class LanguageTest(unittest.TestCase):
         for where, node in self.each(ast.Expr):
             self.assertIsInstance(node.value, (ast.Call, ast.Yield, ast.YieldFrom, ast.Constant), where)
 
+    def test_generators_have_names_of_their_own(self):
+        functions = [node for _, node in self.each(ast.FunctionDef)]
+        names = [node.name for node in functions]
+        for node in functions:
+            if any(isinstance(part, (ast.Yield, ast.YieldFrom)) for part in ast.walk(node)):
+                self.assertEqual(names.count(node.name), 1, node.name)
+
     def test_is(self):
         for where, node in self.each(ast.Compare):
             for operator, right in zip(node.ops, node.comparators):

@@ -21,6 +21,11 @@ def is_quoted(item):
     return item.startswith(QUOTE)
 
 
+def quote(word):
+    """Return the item of the word."""
+    return f"{QUOTE}{word}{QUOTE}"
+
+
 def is_item(text):
     """Tell whether the text is a name or a word in double quotes."""
     if not is_quoted(text):

@@ -11,28 +11,27 @@ MOST_KNOWN = 10 ** 5
 
 def derivation_value(derivation, world, values):
     """Return the value of the derivation for these values of its premises."""
-    steps = steps_from_parts(derivation)
-    for step, _ in steps:
-        _refuse_large(step, world)
-    if not _are_values(values, derivation[1], world):
-        raise FitError("the values are not those of the premises")
-    tasks = [_task_of(step, places, world) for step, places in steps]
+    refuse_large_steps(derivation, world)
+    refuse_other_values(values, derivation[1], world)
+    tasks = [_task_of(step, places, world) for step, places in steps_from_parts(derivation)]
     return _evaluate(tasks, len(tasks) - 1, values, {})
 
 
-def _refuse_large(step, world):
-    for kind in (*step[1], step[2]):
-        if count_values(kind, world) > MOST_STEP_VALUES:
-            raise SizeError("a premise or goal with too many values")
+def refuse_large_steps(derivation, world):
+    """Raise SizeError if a premise or the goal of some step has too many values."""
+    for step, _ in steps_from_parts(derivation):
+        for kind in (*step[1], step[2]):
+            if count_values(kind, world) > MOST_STEP_VALUES:
+                raise SizeError("a premise or goal with too many values")
 
 
-def _are_values(values, premises, world):
-    """Tell whether these are as many values as premises, each one of its premise."""
-    if len(values) != len(premises):
-        return False
-    return all([
-        is_whole(value) and 0 <= value < count_values(kind, world) for value, kind in zip(values, premises)
-    ])
+def refuse_other_values(values, kinds, world):
+    """Raise FitError unless these are as many values as kinds, each one of its kind."""
+    if len(values) != len(kinds):
+        raise FitError("not as many values as kinds")
+    for value, kind in zip(values, kinds):
+        if not is_whole(value) or not 0 <= value < count_values(kind, world):
+            raise FitError("a value that its kind does not have")
 
 
 def _task_of(step, places, world):

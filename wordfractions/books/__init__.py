@@ -1,0 +1,1 @@
+"""Books of rules for kinds, charts and trees over rows."""
