@@ -107,3 +107,80 @@ def form_by_hand(grammar):
         else:
             form.extend([(head, b) for z, b in real if z == body[0] or (body[0], z) in reached])
     return tuple(dict.fromkeys(form))
+
+
+def trees_of(grammar, name, words):
+    """All trees of the name over the words, in any order."""
+    found = [(name, words[0])] if len(words) == 1 and (name, (f'"{words[0]}"',)) in grammar.rules else []
+    for head, body in grammar.rules:
+        if head == name and len(body) == 2:
+            for k in range(1, len(words)):
+                lefts = trees_of(grammar, body[0], words[:k])
+                found.extend((name, left, right) for left in lefts for right in trees_of(grammar, body[1], words[k:]))
+    return found
+
+
+def words_of(tree):
+    return (tree[1],) if len(tree) == 2 else words_of(tree[1]) + words_of(tree[2])
+
+
+def tree_key(grammar, tree):
+    """What puts trees into the order of [76]."""
+    if len(tree) == 2:
+        return (grammar.rules.index((tree[0], (f'"{tree[1]}"',))),)
+    _, left, right = tree
+    place = grammar.rules.index((tree[0], (left[0], right[0])))
+    return (place, len(words_of(left)), tree_key(grammar, left), tree_key(grammar, right))
+
+
+def corners_of_symbols(grammar):
+    """All corner rules of all symbols, as [77] tells, kept or not: {symbol: rules in order}."""
+    def beginnings(z):
+        own = [(body[0][1:-1], (), (head, body)) for head, body in grammar.rules if head == z and body[0][0] == '"']
+        far = [(body[0][1:-1], ((head, z),), (head, body)) for head, body in grammar.rules if body[0][0] == '"']
+        return own + far
+
+    table = {}
+    for x in grammar.names:
+        table[x] = [(x, w, rests, (r,)) for w, rests, r in beginnings(x)]
+    for y in grammar.names:
+        for x in grammar.names:
+            rows = table.setdefault((y, x), [])
+            for r in grammar.rules:
+                if len(r[1]) == 2 and r[1][0] == y:
+                    for w, rests, s in beginnings(r[1][1]):
+                        if r[0] == x:
+                            rows.append(((y, x), w, rests, (r, s, True)))
+                        rows.append(((y, x), w, (*rests, (r[0], x)), (r, s, False)))
+    return table
+
+
+def kept_by_rounds(grammar):
+    """The kept corner rules, as [78] tells."""
+    table = corners_of_symbols(grammar)
+    productive = set()
+    while True:
+        new = {symbol for symbol, rows in table.items() if any(set(row[2]) <= productive for row in rows)}
+        if new == productive:
+            break
+        productive = new
+    reached = {grammar.start}
+    while True:
+        new = reached | {rest for symbol in reached for row in table[symbol] if set(row[2]) <= productive for rest in row[2]}
+        if new == reached:
+            break
+        reached = new
+    return tuple(row for symbol, rows in table.items() if symbol in reached for row in rows if set(row[2]) <= productive)
+
+
+def rows_that_fit(grammar, corners, most):
+    """All tuples of these corner rules that fit, with at most so many words."""
+    done = []
+    waiting = [((), (grammar.start,))]
+    while waiting:
+        row, symbols = waiting.pop()
+        if not symbols:
+            done.append(row)
+        elif len(row) + len(symbols) <= most:
+            waiting.extend((row + (corner,), corner[2] + symbols[1:]) for corner in corners if corner[0] == symbols[0])
+    return done

@@ -13,6 +13,13 @@ from wordfractions.cuts.compose import compose
 from wordfractions.cuts.eliminate import eliminate_cuts
 from wordfractions.cuts.identity import identity as lone
 from wordfractions.cuts.substitute import substitute
+from wordfractions.desk.completion import complete
+from wordfractions.desk.deeds import parse_deed
+from wordfractions.desk.desk import Desk
+from wordfractions.grammars.convert import tree_to_derivation
+from wordfractions.grammars.corners import corners_to_tree, tree_to_corners
+from wordfractions.grammars.forest import tree_words
+from wordfractions.grammars.text import parse_grammar
 from wordfractions.kinds.balance import Balance
 from wordfractions.kinds.order import kind_before
 from wordfractions.kinds.shape import is_kind, mirror_kind, substitute_kind
@@ -31,6 +38,7 @@ from wordfractions.trees.back import tree_derivation
 from wordfractions.trees.binarize import binarize
 from wordfractions.trees.meaning import tree_value
 from wordfractions.trees.shape import format_tree, leaves_of, tree_fault
+from wordfractions.whole import trace_phrase
 from wordfractions.words.dictionary import Dictionary
 
 INTERFACE = {
@@ -91,13 +99,32 @@ INTERFACE = {
     "grammars.grammar": {"Grammar": "start rules"},
     "grammars.text": {"format_grammar": "grammar", "parse_grammar": "text"},
     "grammars.twopart": {"two_part_form": "grammar", "grammar_reads": "grammar words"},
+    "grammars.forest": {"grammar_trees": "grammar words", "count_trees": "grammar words", "tree_words": "tree"},
+    "grammars.corners": {
+        "corner_rules": "grammar", "tree_to_corners": "grammar tree", "corners_to_tree": "grammar corners",
+        "count_corner_trees": "grammar words"},
+    "grammars.convert": {
+        "symbol_atom": "grammar symbol", "grammar_dictionary": "grammar", "tree_to_derivation": "grammar tree",
+        "derivation_to_tree": "grammar words derivation"},
+    "desk.reading": {"choices": "dictionary words", "read_words": "dictionary words"},
+    "desk.deeds": {"format_deed": "deed", "parse_deed": "text"},
+    "desk.desk": {"Desk": "dictionary"},
+    "desk.completion": {"complete": "dictionary words most"},
+    "desk.report": {"report": "desk"},
+    "whole": {"trace_phrase": "dictionary words"},
 }
 METHODS = {
     "words.dictionary": {"kinds_of": "self word", "with_wish": "self kind", "with_kind": "self word kind",
                          "without_kind": "self word kind"},
     "books.book": {"unary": "self kind", "binary": "self left right", "derivation": "self kind parts"},
+    "desk.desk": {
+        "put": "self word kind", "drop": "self word kind", "set_wish": "self kind", "watch": "self words",
+        "unwatch": "self words", "undo": "self", "verdicts": "self", "read": "self words", "do": "self text",
+        "do_all": "self texts"},
 }
-CLASS_METHODS = {"books.book": {"Book": {"covering": "first **others"}}}
+CLASS_METHODS = {
+    "books.book": {"Book": {"covering": "first **others"}}, "desk.desk": {"Desk": {"from_journal": "text"}},
+}
 MARKS = {inspect.Parameter.KEYWORD_ONLY: "*", inspect.Parameter.VAR_POSITIONAL: "**"}
 
 
@@ -217,6 +244,26 @@ class DepthTest(Case):
             tree = ("unary", wide, tree, identity(wide))
         self.assertTrue(tree_derivation(tree) == identity(wide))
         self.assertTrue(tree_value(tree, {}, (0,)) == 0)
+
+    def test_grammars(self):
+        grammar = parse_grammar('start x\nx = "a"\nx = x x')
+        left = right = ("x", "a")
+        for _ in range(19):
+            left, right = ("x", left, ("x", "a")), ("x", ("x", "a"), right)
+        for tree in (left, right):
+            self.assertTrue(len(tree_words(tree)) == 20)
+            self.assertTrue(corners_to_tree(grammar, tree_to_corners(grammar, tree)) == tree)
+            self.assertTrue(len(tree_to_derivation(grammar, tree)[0]) == 20)
+
+    def test_desks(self):
+        wide = comb(8)
+        desk = Desk(Dictionary(wide, (("a", (comb(8), comb(7, left=False), "n")),)))
+        desk.watch(("a", "a"))
+        self.assertTrue(desk.verdicts() == ((("a", "a"), False),))
+        self.assertTrue(complete(desk.dictionary, (), 2) == ("a",))
+        self.assertTrue(trace_phrase(desk.dictionary, ("a",))[0] == (wide,))
+        self.assertTrue(Desk.from_journal(desk.journal).watched == desk.watched)
+        self.assertTrue(parse_deed("wish " + "(" * 199 + "n" + ")" * 199) == ("wish", "n"))
 
     def test_books(self):
         book = Book(("n",), 4)

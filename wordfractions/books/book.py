@@ -1,15 +1,14 @@
 """Books: all small kinds over some atoms, and the rules that lead from one to another."""
 
-from wordfractions.books.follow import follows
 from wordfractions.errors import FitError, SizeError
 from wordfractions.kinds.balance import Balance
 from wordfractions.kinds.order import MOST_UNLIKE_ATOMS, is_row_of_atoms, kinds_up_to, number_of_kinds
 from wordfractions.kinds.shape import atoms_of, has_numbers, is_whole, size_of
 from wordfractions.search.decide import decide
+from wordfractions.search.follow import Follower
 
 MOST_SIZE = 4
 MOST_PARTS = 2
-MOST_KNOWN = 10 ** 5
 
 
 class Book:
@@ -29,9 +28,9 @@ class Book:
         self._groups = {}
         for kind in self._kinds:
             self._groups.setdefault(self._letters[kind], []).append(kind)
-        # Answers found before: by letters, by a sequent, by a kind, by two kinds.
+        self._follower = Follower()
+        # Answers found before: by letters, by a kind, by two kinds.
         self._alike = {}
-        self._known = {}
         self._unary = {}
         self._binary = {}
 
@@ -106,10 +105,7 @@ class Book:
 
     def has_rule(self, kind, parts):
         """Tell whether parts of the book lead to one of its kinds."""
-        if len(self._known) > MOST_KNOWN:
-            # A book has far more sequents than can be kept.
-            self._known.clear()
-        return follows((parts, kind), self._known)
+        return self._follower.has_derivation(parts, kind)
 
     def _list_led(self, parts):
         return tuple([kind for kind in self.alike(parts) if self.has_rule(kind, parts)])

@@ -8,12 +8,11 @@ from wordfractions.sequents.text import format_sequent
 
 def decide(sequent):
     """Return ("derived", derivation) or ("refused", table)."""
-    # By the text of each sequent met: the sequent, and its derivation or None.
     answers = {}
-    derivation = _derive(searched_sequent(sequent), answers)
+    derivation = find_derivation(searched_sequent(sequent), answers)
     if derivation is not None:
         return ("derived", derivation)
-    return ("refused", tuple([entry for entry, found in answers.values() if found is None]))
+    return ("refused", refused_table(answers))
 
 
 def derivable(sequent):
@@ -21,8 +20,12 @@ def derivable(sequent):
     return decide(sequent)[0] == "derived"
 
 
-def _derive(sequent, answers):
-    """Return a derivation of the sequent, or None, and keep the answer."""
+def find_derivation(sequent, answers):
+    """Return a derivation of the sequent, or None.
+
+    By the text of each sequent that is met, `answers` keeps the sequent, and
+    its derivation or None.
+    """
     if balances_differ(sequent):
         # Not kept: no table has such an entry.
         return None
@@ -30,6 +33,11 @@ def _derive(sequent, answers):
     if key not in answers:
         answers[key] = (sequent, _first_derivation(sequent, answers))
     return answers[key][1]
+
+
+def refused_table(answers):
+    """Return the closed table of all sequents for which no derivation was found."""
+    return tuple([entry for entry, found in answers.values() if found is None])
 
 
 def _first_derivation(sequent, answers):
@@ -45,7 +53,7 @@ def _derive_all(parts, answers):
     """Return a tuple of derivations of the parts, or None if one has none."""
     derived = []
     for part in parts:
-        derivation = _derive(part, answers)
+        derivation = find_derivation(part, answers)
         if derivation is None:
             return None
         derived.append(derivation)

@@ -1,0 +1,1 @@
+"""The desk: a dictionary at work."""
