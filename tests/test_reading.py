@@ -119,11 +119,13 @@ class ReadingTest(Case):
                 self.refuses(SizeError, choices, d, words)
                 self.refuses(SizeError, read_words, d, words)
         self.same(choices(many(7, 11, 13), ("a", "b", "c", "x")), ())
+        begun = time.perf_counter()
         wide = Dictionary("s", tuple((word, UNARY) for word in "abcdef"))
         self.refuses(SizeError, choices, wide, ("a", "b", "c"))
         self.same(choices(wide, ("a", "b", "c", "d", "e", "x")), ())
         self.same(choices(wide, ("x",) * 6), ())
         self.assertEqual(read_words(wide, ("a", "b", "c", "d", "e", "x"))[0], "none")
+        self.assertLess(time.perf_counter() - begun, 5)
 
     def test_twenty_four_atoms_and_one_more(self):
         eight = bush(8)
@@ -135,6 +137,10 @@ class ReadingTest(Case):
             else:
                 self.refuses(SizeError, choices, d, words)
                 self.refuses(SizeError, read_words, d, words)
+        # A single choice may be too large, too.
+        lone = Dictionary("n", (("a", (bush(8),)), ("b", (bush(7),))))
+        self.same(choices(lone, ("a", "a", "b")), ())
+        self.refuses(SizeError, choices, lone, ("a", "a", "a"))
         # The kinds of a word count only by the largest one.
         fit = Dictionary("s", (("a", (bush(8), "n")), ("b", ("n", bush(7)))))
         self.same(choices(fit, ("a", "a", "b")), ())

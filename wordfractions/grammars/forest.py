@@ -44,9 +44,6 @@ def _counts(grammar, words):
 def _list_trees(rules, words, counts, place):
     """Return the list of the trees at this place, which is a name, a start and a stop."""
     name, start, stop = place
-    # What has no trees is not looked into: what stands beside it may have very many.
-    if place not in counts:
-        return []
     trees = []
     for head, body in rules:
         if head != name:
@@ -66,6 +63,7 @@ def _list_pairs(rules, words, counts, place, body):
     for middle in range(start + 1, stop):
         left_place = (body[0], start, middle)
         right_place = (body[1], middle, stop)
+        # What stands beside a part without trees is not listed: it may have very many.
         if left_place in counts and right_place in counts:
             rights = _list_trees(rules, words, counts, right_place)
             lefts = _list_trees(rules, words, counts, left_place)
