@@ -2,6 +2,8 @@
 
 import importlib
 import inspect
+import pathlib
+import re
 import sys
 
 from tests.helper import Case, comb, identity
@@ -163,6 +165,18 @@ class InterfaceTest(Case):
         self.assertIs(inspect.signature(first_fault).parameters["allow_cuts"].default, False)
         self.assertEqual(inspect.signature(Balance).parameters["letters"].default, ())
         self.assertEqual(inspect.signature(Dictionary).parameters["entries"].default, ())
+
+
+class FoldersTest(Case):
+
+    def test_the_order_in_which_folders_build_on_one_another(self):
+        """[1]: no folder needs one that comes behind it."""
+        order = "kinds sequents search cuts meanings middles trees words books grammars desk".split()
+        package = pathlib.Path(__file__).resolve().parent.parent / "wordfractions"
+        self.assertEqual({path.name for path in package.iterdir() if path.is_dir() and path.name[0] != "_"}, set(order))
+        for path in package.glob("*/*.py"):
+            for name in re.findall(r"from wordfractions\.(\w+)\.", path.read_text()):
+                self.assertLessEqual(order.index(name), order.index(path.parent.name), path)
 
 
 class DepthTest(Case):

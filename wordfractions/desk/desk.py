@@ -123,7 +123,7 @@ class Desk:
 
     def do_all(self, texts):
         """Do the deeds of all texts, or none of them."""
-        # None of these values is ever changed; other ones take their places.
+        # No deed changes these values themselves: other ones take their places.
         held = (self._texts, self._dictionary, self._watched, self._work, self._past, self._settled)
         try:
             for text in texts:
