@@ -31,6 +31,9 @@ FORBIDDEN = (
     ast.AsyncFunctionDef, ast.AsyncFor, ast.AsyncWith, ast.Await, ast.Global, ast.Import, ast.Div, ast.AnnAssign,
 )
 TAKES_LISTS = ("any", "all", "sum", "min", "max", "sorted")
+CHANGING = set("append clear extend insert pop remove reverse setdefault update add discard sort".split())
+MADE = (ast.List, ast.Dict, ast.Set, ast.ListComp, ast.SetComp, ast.DictComp, ast.BinOp)
+MAKERS = ("list", "dict", "set", "sorted")
 
 
 def nodes(path, *kinds):
@@ -44,6 +47,58 @@ def docstrings(path):
         if ast.get_docstring(node) is not None:
             found.append(node.body[0].value)
     return [(node.lineno, node.col_offset) for node in found]
+
+
+def walks(function):
+    """Yield (heads, rows) for each loop and comprehension: what it walks, and what is run for each item."""
+    for node in ast.walk(function):
+        if isinstance(node, ast.For):
+            yield [node.iter], node.body
+        elif isinstance(node, (ast.ListComp, ast.SetComp, ast.DictComp, ast.GeneratorExp)):
+            yield [part.iter for part in node.generators], [node]
+
+
+def changed_things(rows):
+    """Yield what is changed in these rows: by a method, by a sign such as `+=`, in an item or in an attribute."""
+    for row in rows:
+        for node in ast.walk(row):
+            if isinstance(node, ast.Call) and isinstance(node.func, ast.Attribute) and node.func.attr in CHANGING:
+                yield node.func.value
+            elif isinstance(node, ast.AugAssign) and isinstance(node.target, ast.Name):
+                yield node.target
+            elif isinstance(node, (ast.Subscript, ast.Attribute)) and not isinstance(node.ctx, ast.Load):
+                yield node.value
+
+
+def is_made(value):
+    """The value is plainly one that was made just there."""
+    if isinstance(value, ast.Call):
+        return isinstance(value.func, ast.Name) and value.func.id in MAKERS
+    return isinstance(value, MADE)
+
+
+def is_own(function, name):
+    """The name is a parameter (but not a method's object), or the function made all that it gives this name."""
+    parameters = [part.arg for part in function.args.args]
+    values = [node.value for node in ast.walk(function) if isinstance(node, ast.Assign)
+              and name in [ast.unparse(target) for target in node.targets]]
+    return name != "self" and (bool(values) or name in parameters) and all(is_made(value) for value in values)
+
+
+def unplain_changes(tree):
+    """Return (row, text) for what is changed in a loop and is not plainly another thing than what it walks."""
+    found = {}
+    for function in ast.walk(tree):
+        if not isinstance(function, ast.FunctionDef):
+            continue
+        for heads, rows in walks(function):
+            named = {node.id for head in heads for node in ast.walk(head) if isinstance(node, ast.Name)}
+            for thing in changed_things(rows):
+                plain = isinstance(thing, ast.Name) and thing.id not in named
+                # A name that `+=` gives another value may well be a number's.
+                if not plain or isinstance(thing.ctx, ast.Load) and not is_own(function, thing.id):
+                    found[thing.lineno, ast.unparse(thing)] = True
+    return sorted(found)
 
 
 class LanguageTest(unittest.TestCase):
@@ -164,6 +219,30 @@ class LanguageTest(unittest.TestCase):
                 self.assertFalse(any(isinstance(part, ast.GeneratorExp) for part in node.args), where)
         for where, node in self.each(ast.Expr):
             self.assertIsInstance(node.value, (ast.Call, ast.Yield, ast.YieldFrom, ast.Constant), where)
+
+    def test_what_a_loop_walks_is_not_changed_in_it(self):
+        for path in FILES:
+            self.assertEqual(unplain_changes(ast.parse(path.read_text())), [], path)
+
+    def test_changes_in_loops_are_seen(self):
+        """The test above sees the forms that it is for, and lets plain ones be."""
+        for head, row in (
+                ("self._kinds", "self._groups.setdefault(k, []).append(k)"), ("self._kinds", "self._groups[k] = k"),
+                ("self._kinds", "self._kinds.append(k)"), ("self._kinds", "self._last = k"), ("xs", "xs.append(k)"),
+                ("xs", "del xs[k]"), ("xs", "xs[k] += 1"), ("xs", "xs += [k]"), ("enumerate(xs)", "xs[0] = k"),
+                ("zip(ys, xs)", "xs.pop()"), ("xs if ys else made", "made.append(k)"), ("xs or made", "made.append(k)"),
+                ("made[xs.pop()]", "xs.add(k)"), ("xs", "kept.append(k)"), ("xs", "made[0].append(k)"),
+                ("xs", "made.setdefault(k, []).append(k)"), ("xs", "xs.held.append(k)"),
+                ("xs", "[xs.pop() for _ in made]"), ("xs", "[y for y in made if made.pop()]")):
+            made = f"def f(self, xs, ys):\n    made = []\n    kept = self._kept\n    for k in {head}:\n        {row}"
+            self.assertEqual({line for line, _ in unplain_changes(ast.parse(made))}, {5}, made)
+        for head, row in (
+                ("self._kinds", "made[k] = k"), ("self._kinds", "made.append(k)"), ("self._kinds", "made += [k]"),
+                ("list(self._kinds)", "made[k] += 1"), ("xs", "ys.append(k)"), ("range(len(xs))", "del ys[k]"),
+                ("xs.items()", "made.extend(self._kept)"), ("xs", "k = self._groups[k]"),
+                ("xs", "made.append([y for y in ys])"), ("xs", "self.do(k)")):
+            made = f"def f(self, xs, ys):\n    made = []\n    for k in {head}:\n        {row}\n    self._made = made"
+            self.assertEqual(unplain_changes(ast.parse(made)), [], made)
 
     def test_generators_have_names_of_their_own(self):
         functions = [node for _, node in self.each(ast.FunctionDef)]

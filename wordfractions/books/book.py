@@ -11,6 +11,14 @@ MOST_SIZE = 4
 MOST_PARTS = 2
 
 
+def _group_by_letters(letters_of):
+    """Return a dict from letters to the tuple of the kinds that have them, in the order of those given."""
+    groups = {}
+    for kind, letters in letters_of.items():
+        groups[letters] = groups.get(letters, ()) + (kind,)
+    return groups
+
+
 class Book:
     """The kinds over some atoms up to a size, and their rules. It never changes."""
 
@@ -25,9 +33,7 @@ class Book:
         self._most = most
         self._kinds = kinds_up_to(atoms, most)
         self._letters = {kind: Balance.of(kind).letters for kind in self._kinds}
-        self._groups = {}
-        for kind in self._kinds:
-            self._groups.setdefault(self._letters[kind], []).append(kind)
+        self._groups = _group_by_letters(self._letters)
         self._follower = Follower()
         # Answers found before: by letters, by a kind, by two kinds.
         self._alike = {}
@@ -100,7 +106,7 @@ class Book:
         for kind in parts:
             letters = letters + self._letters[kind]
         if letters not in self._alike:
-            self._alike[letters] = tuple(self._groups.get(Balance(letters).letters, ()))
+            self._alike[letters] = self._groups.get(Balance(letters).letters, ())
         return self._alike[letters]
 
     def has_rule(self, kind, parts):

@@ -95,10 +95,14 @@ class Desk:
     def verdicts(self):
         """Return the pairs of a watched phrase and whether it is a sentence."""
         follower = Follower()
+        settled = {}
         for words in self._watched:
-            if words not in self._settled:
-                self._settled[words] = first_choice(self._dictionary, words, follower) is not None
-        return tuple([(words, self._settled[words]) for words in self._watched])
+            if words in self._settled:
+                settled[words] = self._settled[words]
+            else:
+                settled[words] = first_choice(self._dictionary, words, follower) is not None
+        self._settled = settled
+        return tuple(settled.items())
 
     def read(self, words):
         """Return what reading the phrase gives."""

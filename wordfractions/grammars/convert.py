@@ -44,11 +44,11 @@ def grammar_dictionary(grammar):
     form = two_part_form(grammar)
     kinds = {}
     for corner in corner_rules(form):
-        borne = kinds.setdefault(corner[WORD], [])
+        borne = kinds.get(corner[WORD], ())
         kind = _corner_kind(form, corner)
         if kind not in borne:
-            borne.append(kind)
-    return Dictionary(form.start, tuple([(word, tuple(borne)) for word, borne in kinds.items()]))
+            kinds[corner[WORD]] = borne + (kind,)
+    return Dictionary(form.start, tuple(kinds.items()))
 
 
 def tree_to_derivation(grammar, tree):

@@ -83,7 +83,8 @@ def _find_reached(fitting, start):
     reached = {start: True}
     waiting = [start]
     while waiting:
-        for corner in fitting[waiting.pop()]:
+        symbol = waiting.pop()
+        for corner in fitting[symbol]:
             for rest in corner[RESTS]:
                 if rest not in reached:
                     reached[rest] = True

@@ -4,7 +4,7 @@
 def last_steps(sequent):
     """Return all last steps of the sequent, cuts left out, in order."""
     premises, goal = sequent
-    found = _steps_for_goal(premises, goal)
+    found = list(_steps_for_goal(premises, goal))
     for place, kind in enumerate(premises):
         if not isinstance(kind, str):
             found.extend(_steps_for_premise(premises, goal, place))
